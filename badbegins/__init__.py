@@ -1,0 +1,1 @@
+"""Badbegins: where badness began in a net of makes."""
