@@ -1,8 +1,12 @@
 """What several test files need."""
 
 import contextlib
+import copy
 import itertools
 import signal
+import unittest
+
+from badbegins.errors import HuntError
 
 BIG = 10 ** 60 - 1
 
@@ -38,6 +42,31 @@ def line(many):
     return tuple(() if make == 0 else (make - 1,) for make in range(many))
 
 
+def comes(net, young, old):
+    """Whether the young one comes of the old one, by going all ways."""
+    return young == old or any(comes(net, elder, old) for elder in net[young])
+
+
+def some_net(chance, most):
+    """A net of up to so many makes, by chance."""
+    share = chance.random()
+    return tuple(
+        tuple(elder for elder in range(make) if chance.random() < share)
+        for make in range(chance.randint(1, most)))
+
+
+def some_makes(chance, net, least=0):
+    """Some makes of the net by chance, in any order, perhaps some twice."""
+    many = chance.randint(least, len(net) + 2)
+    return [chance.randrange(len(net)) for _ in range(many)]
+
+
+def subsets(things):
+    """Each tuple of some of these, in their order."""
+    things = list(things)
+    return [part for size in range(len(things) + 1) for part in itertools.combinations(things, size)]
+
+
 @contextlib.contextmanager
 def within(seconds):
     """Fail what takes longer, where it might have no end in time."""
@@ -51,3 +80,21 @@ def within(seconds):
     finally:
         signal.alarm(0)
         signal.signal(signal.SIGALRM, before)
+
+
+class Asking(unittest.TestCase):
+    def refused(self, kind, fields, call, *given):
+        """Just this kind of refusal, where nothing that is handed in is changed."""
+        before = copy.deepcopy(given)
+        with self.assertRaises(HuntError) as held:
+            call(*given)
+        self.assertIs(type(held.exception), kind)
+        self.assertEqual(vars(held.exception), fields)
+        self.assertEqual(given, before)
+
+    def told(self, call, *given):
+        """What is told, where nothing that is handed in is changed."""
+        before = copy.deepcopy(given)
+        answer = call(*given)
+        self.assertEqual(given, before)
+        return answer

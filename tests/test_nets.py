@@ -1,27 +1,16 @@
 """Points 2, 4 and 6: nets, and nets renumbered."""
 
-import copy
 import itertools
 import unittest
 
 from badbegins import nets
-from badbegins.errors import HuntError, NoNet, NoOrder
+from badbegins.errors import NoNet, NoOrder
 from badbegins.nets import net_of, renumbered
 
-from helping import BIG, all_rows, full_net, line, small_nets, within
+from helping import BIG, Asking, all_rows, full_net, line, small_nets, within
 
 
-class Refusing(unittest.TestCase):
-    def refused(self, kind, fields, call, *given):
-        before = copy.deepcopy(given)
-        with self.assertRaises(HuntError) as held:
-            call(*given)
-        self.assertIs(type(held.exception), kind)
-        self.assertEqual(vars(held.exception), fields)
-        self.assertEqual(given, before)
-
-
-class NetTest(Refusing):
+class NetTest(Asking):
     def no_net(self, rows, make):
         self.refused(NoNet, {"make": make}, net_of, rows)
 
@@ -134,7 +123,7 @@ def first_fault(net, order):
     return len(order)
 
 
-class RenumberedTest(Refusing):
+class RenumberedTest(Asking):
     def no_order(self, net, order, place):
         self.refused(NoOrder, {"place": place}, renumbered, net, order)
 
