@@ -67,6 +67,18 @@ def subsets(things):
     return [part for size in range(len(things) + 1) for part in itertools.combinations(things, size)]
 
 
+def led_with_lies(chance, net, plan, first, lies):
+    """The makes tried and those left, badness begun there and at most so many trials lying."""
+    tried, rest = [], plan
+    while rest[0] == "try":
+        tried.append(rest[1])
+        bad = comes(net, rest[1], first)
+        if lies > 0 and chance.random() < 0.5:
+            bad, lies = not bad, lies - 1
+        rest = rest[2] if bad else rest[3]
+    return tried, rest[1]
+
+
 @contextlib.contextmanager
 def within(seconds):
     """Fail what takes longer, where it might have no end in time."""
@@ -80,6 +92,31 @@ def within(seconds):
     finally:
         signal.alarm(0)
         signal.signal(signal.SIGALRM, before)
+
+
+def some_thing(chance, deep):
+    """Anything at all, by chance."""
+    if deep == 0 or chance.random() < 0.4:
+        return chance.choice([
+            "left", "try", "bad", "", "x" * 50, True, False, None, 0, 1, 2, -1, 10, BIG, -BIG, (), []])
+    things = [some_thing(chance, deep - 1) for _ in range(chance.randint(0, 4))]
+    return chance.choice([list, tuple])(things)
+
+
+def within_one_another(kind, many, inner):
+    """A thing so many times within lists, or tuples, of one thing each."""
+    for _ in range(many):
+        inner = kind([inner])
+    return inner
+
+
+def great_things():
+    """Things at the bounds of what is told of anything."""
+    return [
+        "x" * 9000, " ~\n" * 3000, (0,) * 20000, [0] * 20000, (((),) * 20,) * 900, [None] * 20000,
+        within_one_another(tuple, 60, 0), within_one_another(list, 60, "left"),
+        within_one_another(tuple, 59, ()), BIG, -BIG,
+    ]
 
 
 class Asking(unittest.TestCase):
