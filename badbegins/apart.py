@@ -1,12 +1,12 @@
 """What trials can tell apart: sides, useful makes, makes that are alike."""
 
 from badbegins.heirs import elders_of, heirs_of
-from badbegins.nets import need_makes
+from badbegins.nets import need_makes, rising_of
 
 
 def sides(net, makes, make):
     """Those of the makes of which the make comes, and the others, both rising."""
-    return _sides_by(elders_of(net, make), sorted(set(makes)))
+    return _sides_by(elders_of(net, make), rising_of(makes))
 
 
 def parts(net, makes, make):
@@ -31,7 +31,7 @@ def classes(net, makes, barred=None):
     """The makes that are alike, as rising tuples, by their least makes."""
     tries = tries_of(net, barred)
     alike = {}
-    for make in sorted(set(makes)):
+    for make in rising_of(makes):
         tellers = tuple([heir for heir in heirs_of(net, make) if heir in tries])
         alike.setdefault(tellers, []).append(make)
     return [tuple(row) for row in alike.values()]
@@ -51,7 +51,7 @@ def tries_of(net, barred):
 
 def useful_sides(tries, makes):
     """Each make to try that parts the makes, rising, with both sides of them."""
-    rising = sorted(set(makes))
+    rising = rising_of(makes)
     found = []
     for make, elders in tries.items():
         bad, good = _sides_by(elders, rising)

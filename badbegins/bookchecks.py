@@ -3,7 +3,7 @@
 from badbegins.apart import tries_of
 from badbegins.entrychecks import need_right, need_shape
 from badbegins.kinds import is_whole
-from badbegins.nets import is_make
+from badbegins.nets import is_make, rising_of
 from badbegins.stands import makes_of
 from badbegins.steps import number_with, steps_from
 
@@ -27,7 +27,7 @@ def _is_stand(net, thing, lies):
     if not all([_is_pair(net, pair, lies) for pair in thing]):
         return False
     makes = makes_of(thing)
-    return makes == tuple(sorted(set(makes)))
+    return makes == rising_of(makes)
 
 
 def _is_pair(net, pair, lies):

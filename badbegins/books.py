@@ -2,7 +2,7 @@
 
 from badbegins.apart import tries_of
 from badbegins.errors import TooGreat
-from badbegins.reckoning import book_by, reckoned
+from badbegins.reckoning import book_by, plan_by, reckoned
 from badbegins.stands import makes_of
 from badbegins.steps import number_with, steps_from
 
@@ -20,9 +20,14 @@ def number_of(net, stand, barred=None, lies=0, prices=None):
     return _reckoned_from(net, stand, barred, lies, prices)[stand][0]
 
 
+def best_make(net, stand, barred=None, lies=0, prices=None):
+    """The make that the book tells for the stand, or None."""
+    return _reckoned_from(net, stand, barred, lies, prices)[stand][1]
+
+
 def best_plan(net, stand, barred=None, lies=0, prices=None):
     """The plan that tries at each stand the make of the book."""
-    return _plan_by_entries(_reckoned_from(net, stand, barred, lies, prices), stand)
+    return plan_by(_reckoned_from(net, stand, barred, lies, prices), stand, makes_of)
 
 
 def _reckoned_from(net, stand, barred, lies, prices):
@@ -34,11 +39,3 @@ def _reckoned_from(net, stand, barred, lies, prices):
         lambda held: steps_from(tries, held, lies),
         lambda held, make, numbers: number_with(make, prices, numbers),
     )
-
-
-def _plan_by_entries(entries, stand):
-    _, make, behind = entries[stand]
-    if make is None:
-        return ("left", makes_of(stand))
-    bad, good = behind
-    return ("try", make, _plan_by_entries(entries, bad), _plan_by_entries(entries, good))

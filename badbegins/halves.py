@@ -1,6 +1,7 @@
 """Halving: trying what parts the makes that are left most evenly."""
 
 from badbegins.apart import tries_of, useful_sides
+from badbegins.nets import rising_of
 
 
 def halving_make(net, makes, barred=None):
@@ -11,7 +12,7 @@ def halving_make(net, makes, barred=None):
 
 def halving_plan(net, makes, barred=None):
     """The plan for these makes that tries the halving make of what is left."""
-    return _plan_by_halves(tries_of(net, barred), tuple(sorted(set(makes))))
+    return _plan_by_halves(tries_of(net, barred), rising_of(makes))
 
 
 def _halved(tries, makes):

@@ -21,6 +21,11 @@ def renumbered(net, order):
     return tuple([_row_by_places(net[make], places) for make in order])
 
 
+def rising_of(makes):
+    """The makes as a rising tuple, each once."""
+    return tuple(sorted(set(makes)))
+
+
 def is_make(net, make):
     """Whether the number is one of the net's makes."""
     return 0 <= make < len(net)

@@ -18,6 +18,15 @@ def book_by(entries):
     return sorted([(thing, number, choice) for thing, (number, choice, _) in entries.items()])
 
 
+def plan_by(entries, thing, makes_by):
+    """The plan that tries at each thing the make reckoned; makes_by tells a thing's makes."""
+    _, make, behind = entries[thing]
+    if make is None:
+        return ("left", makes_by(thing))
+    bad, good = behind
+    return ("try", make, plan_by(entries, bad, makes_by), plan_by(entries, good, makes_by))
+
+
 def _reckon(entries, thing, choices_of, number_by):
     if thing not in entries:
         ways = []

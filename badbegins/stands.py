@@ -2,6 +2,7 @@
 
 from badbegins.errors import NoTruth
 from badbegins.heirs import elders_of
+from badbegins.nets import rising_of
 from badbegins.trials import against
 
 
@@ -29,7 +30,7 @@ def makes_of(stand):
 
 def stand_of(makes):
     """The stand of these makes with no trial against any."""
-    return tuple([(make, 0) for make in sorted(set(makes))])
+    return tuple([(make, 0) for make in rising_of(makes)])
 
 
 def behind_by(elders, stand, answer, lies):

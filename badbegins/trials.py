@@ -2,7 +2,7 @@
 
 from badbegins.errors import NoTrial
 from badbegins.heirs import comes_of, heirs_of
-from badbegins.nets import is_make, need_makes
+from badbegins.nets import is_make, need_makes, rising_of
 
 ANSWERS = ("bad", "good", "cannot")
 
@@ -28,7 +28,7 @@ def true_answer(net, first, make):
 def barred_by(net, trials):
     """The makes that some of the trials tell to be such as can't be tried, rising."""
     need_trials(net, trials)
-    return tuple(sorted(set([make for make, answer in trials if answer == "cannot"])))
+    return rising_of([make for make, answer in trials if answer == "cannot"])
 
 
 def need_trials(net, trials):

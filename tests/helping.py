@@ -67,6 +67,45 @@ def subsets(things):
     return [part for size in range(len(things) + 1) for part in itertools.combinations(things, size)]
 
 
+def some_order(chance, net):
+    """All makes of the net, each behind all its elders, by chance."""
+    order = []
+    while len(order) < len(net):
+        order.append(chance.choice([
+            make for make in range(len(net))
+            if make not in order and set(net[make]) <= set(order)]))
+    return order
+
+
+def some_plan(chance, net, most):
+    """A plan of the forms of 16, by chance."""
+    if most == 0 or chance.random() < 0.3:
+        return ("left", tuple(sorted(chance.sample(range(len(net)), chance.randint(0, len(net))))))
+    return (
+        "try", chance.randrange(len(net)),
+        some_plan(chance, net, most - 1), some_plan(chance, net, most - 1))
+
+
+def long_plan(tries, deep):
+    """So many tries of make 1 within one another, behind one of the answers."""
+    plan = ("left", (0,))
+    for _ in range(tries):
+        other = ("left", (1,))
+        plan = ("try", 1, plan, other) if deep == "bad" else ("try", 1, other, plan)
+    return plan
+
+
+def paths_of(plan):
+    """Each path with the tries that lead there and what is left, bad ones first."""
+    if plan[0] == "left":
+        return [((), (), plan[1])]
+    return [
+        ((answer, *path), (plan[1], *tried), makes)
+        for answer, part in (("bad", plan[2]), ("good", plan[3]))
+        for path, tried, makes in paths_of(part)
+    ]
+
+
 def led_with_lies(chance, net, plan, first, lies):
     """The makes tried and those left, badness begun there and at most so many trials lying."""
     tried, rest = [], plan

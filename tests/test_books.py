@@ -14,7 +14,7 @@ from badbegins.planchecks import plan_asked
 from badbegins.plans import worst_of
 from badbegins.stands import behind, makes_of, stand_of
 
-from helping import Asking, full_net, led_with_lies, line, some_makes, some_net, within
+from helping import Asking, full_net, led_with_lies, line, some_makes, some_net, some_order, within
 
 NET = ((), (0,), (0,), (1, 2), (), (2, 4))
 MOST = (10, 6, 4, 3)
@@ -232,16 +232,6 @@ class NumberTest(Asking):
                     renumbered(net, order), tuple(sorted((moved[make], many) for make, many in stand)),
                     None if barred is None else [moved[make] for make in barred], lies,
                     None if prices is None else [prices[make] for make in order]))
-
-
-def some_order(chance, net):
-    """All makes of the net, each behind all its elders, by chance."""
-    order = []
-    while len(order) < len(net):
-        order.append(chance.choice([
-            make for make in range(len(net))
-            if make not in order and set(net[make]) <= set(order)]))
-    return order
 
 
 class BestPlanTest(Asking):

@@ -9,7 +9,7 @@ from badbegins.errors import NoMake
 from badbegins.plans import followed, leaves_of, led, worst_of
 from badbegins.trials import true_answer
 
-from helping import BIG, Asking, line, some_net
+from helping import BIG, Asking, line, long_plan, paths_of, some_net, some_plan
 
 NET = ((), (0,), (0,), (1, 2), (), (2, 4))
 LEFT = ("left", (1, 3))
@@ -19,35 +19,6 @@ PLAN = (
     ("try", 1, ("left", (0, 1)), ("try", 2, ("left", (2,)), ("left", (3,)))),
     ("try", 4, ("left", (4,)), ("left", (5,))),
 )
-
-
-def some_plan(chance, net, most):
-    """A plan of the forms of 16, by chance."""
-    if most == 0 or chance.random() < 0.3:
-        return ("left", tuple(sorted(chance.sample(range(len(net)), chance.randint(0, len(net))))))
-    return (
-        "try", chance.randrange(len(net)),
-        some_plan(chance, net, most - 1), some_plan(chance, net, most - 1))
-
-
-def long_plan(tries, deep):
-    """So many tries of make 1 within one another, behind one of the answers."""
-    plan = ("left", (0,))
-    for _ in range(tries):
-        other = ("left", (1,))
-        plan = ("try", 1, plan, other) if deep == "bad" else ("try", 1, other, plan)
-    return plan
-
-
-def paths_of(plan):
-    """Each path with the tries that lead there and what is left, bad ones first."""
-    if plan[0] == "left":
-        return [((), (), plan[1])]
-    return [
-        ((answer, *path), (plan[1], *tried), makes)
-        for answer, part in (("bad", plan[2]), ("good", plan[3]))
-        for path, tried, makes in paths_of(part)
-    ]
 
 
 class WorstTest(Asking):
