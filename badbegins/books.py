@@ -20,7 +20,7 @@ def number_of(net, stand, barred=None, lies=0, prices=None):
     return _reckoned_from(net, stand, barred, lies, prices)[stand][0]
 
 
-def best_make(net, stand, barred=None, lies=0, prices=None):
+def best_make(net, stand, barred, lies, prices):
     """The make that the book tells for the stand, or None."""
     return _reckoned_from(net, stand, barred, lies, prices)[stand][1]
 

@@ -1,12 +1,13 @@
 """Points 2, 5 and 7: what comes of what, by what way, and numbers that are no makes."""
 
+import random
 import unittest
 
 from badbegins import heirs
 from badbegins.errors import HuntError, NoMake
 from badbegins.heirs import comes_of, elders_of, heirs_of, way_to
 
-from helping import BIG, full_net, line, small_nets, within
+from helping import BIG, comes, full_net, line, small_nets, within
 
 NET = ((), (0,), (0,), (1, 2), (), (2, 4))
 
@@ -65,6 +66,17 @@ class ComesOfTest(unittest.TestCase):
             for old in makes:
                 self.assertEqual(
                     heirs_of(net, old), tuple(young for young in makes if ways(net, young, old)))
+
+    def test_rising_in_great_nets(self):
+        self.assertEqual(elders_of(((),) * 8 + ((1,),), 8), (1, 8))
+        chance = random.Random(1)
+        for _ in range(60):
+            net = tuple(tuple(sorted(chance.sample(range(make), min(make, 1)))) for make in range(40))
+            for make in range(40):
+                self.assertEqual(
+                    elders_of(net, make), tuple(old for old in range(40) if comes(net, make, old)))
+                self.assertEqual(
+                    heirs_of(net, make), tuple(young for young in range(40) if comes(net, young, make)))
 
     def test_no_two_unlike_ones_come_of_each_other(self):
         for net in small_nets(4):
